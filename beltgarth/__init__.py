@@ -1,0 +1,1 @@
+"""Beltgarth: a machine without places."""
