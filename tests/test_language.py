@@ -93,6 +93,10 @@ def faults_of_node(node):
         found += faults_of_name(name)
     if isinstance(node, ast.Name) and hasattr(builtins, node.id) and node.id not in OWN_NAMES:
         found.append("L8")
+    if isinstance(node, ast.BinOp) and isinstance(node.op, ast.Pow):
+        exponent = node.right.value if isinstance(node.right, ast.Constant) else None
+        if not isinstance(exponent, int) or not 0 <= exponent <= 64:
+            found.append("L27")
     if isinstance(node, ast.Compare) and any(isinstance(op, (ast.Is, ast.IsNot)) for op in node.ops):
         sides = [node.left] + node.comparators
         if not any(isinstance(side, ast.Constant) and isinstance(side.value, (bool, NONE)) for side in sides):
@@ -146,6 +150,11 @@ def own_methods(trees):
             for one in node.body if isinstance(one, ast.FunctionDef)}
 
 
+def own_values(trees):
+    return {node.attr for tree in trees for node in ast.walk(tree)
+            if isinstance(node, ast.Attribute) and isinstance(node.ctx, ast.Store)}
+
+
 class PackageTest(unittest.TestCase):
     def setUp(self):
         self.paths = sorted(path for path in PACKAGE.rglob("*") if "__pycache__" not in path.parts)
@@ -170,6 +179,14 @@ class PackageTest(unittest.TestCase):
             for node in ast.walk(tree):
                 if isinstance(node, ast.Call) and isinstance(node.func, ast.Attribute):
                     self.assertIn(node.func.attr, allowed, (file, node.lineno))
+
+    def test_no_name_is_a_method_and_a_value(self):
+        self.assertEqual(own_methods(self.trees.values()) & own_values(self.trees.values()), set())
+
+    def test_methods_and_values_are_called_like_none_of_python_s_own(self):
+        taken = {name for kind in (str, int, list, dict, set, bytes) for name in dir(kind)}
+        self.assertEqual(own_values(self.trees.values()) & taken, set())
+        self.assertEqual((own_methods(self.trees.values()) - DUNDERS) & taken, set())
 
     def test_names_are_drawn_from_the_file_that_defines_them_and_in_no_ring(self):
         draws = {}
@@ -202,6 +219,7 @@ class FaultsTest(unittest.TestCase):
             ("X = '\u00e4'\n", "L14"), ("def f(next):\n    pass\n", "L15"), ("# its type\n", "L17"),
             ("def f(x, y):\n    return x is y\n", "L20"), ("X = '%'\n", "L27"), ("for x in (1, 2):\n    pass\n", "L3"),
             ("from beltgarth.rows import reads\ndef f(reads):\n    pass\n", "L15"),
+            ("def f(n):\n    return 2 ** n\n", "L27"), ("def f():\n    return 2 ** 65\n", "L27"),
         ]:
             self.assertIn(rule, [found for found, line in faults(text)], text)
 
