@@ -1,6 +1,7 @@
 """Plain runs: a program as it stands, step by step."""
 
 from beltgarth.rows import goal, reads, sets, stands
+from beltgarth.runs import Run, stepped
 from beltgarth.worths import worth
 
 
@@ -13,14 +14,12 @@ class Frame:
         self.names = names
 
 
-class Walk:
+class Walk(Run):
     """A run of one part; of the frames that are open each waits for the one behind it."""
 
     def __init__(self, program, part, args):
+        Run.__init__(self)
         self.program = program
-        self.opened = []
-        self.spoken = []
-        self.outcome = None
         self.enter(part, args)
 
     def step(self):
@@ -40,18 +39,6 @@ class Walk:
     def frames(self):
         """The open frames, the outermost first, as tuples (part, row, names)."""
         return [(frame.part, frame.row, dict(frame.names)) for frame in self.opened]
-
-    def said(self):
-        """What was said so far, in order."""
-        return list(self.spoken)
-
-    def answer(self):
-        """What the outermost frame gave, or None as long as it goes on."""
-        return self.outcome
-
-    def ended(self):
-        """Whether the outermost frame was shut."""
-        return len(self.opened) == 0
 
     def enter(self, part, args):
         """Opens a frame of the part."""
@@ -88,11 +75,5 @@ class Walk:
 
 
 def run(program, part, args, most=400):
-    """A tuple (word, said, answer, steps): given with the answer, or spent behind as many steps as most."""
-    walk = Walk(program, part, args)
-    steps = 0
-    while steps < most and not walk.ended():
-        walk.step()
-        steps += 1
-    word = "given" if walk.ended() else "spent"
-    return (word, walk.said(), walk.answer(), steps)
+    """What the plain run of a part tells, as stepped tells it."""
+    return stepped(Walk(program, part, args), most)
