@@ -33,10 +33,15 @@ List Tuple Dict Set Call keyword BinOp UnaryOp BoolOp Compare IfExp ListComp com
 expr_context operator unaryop boolop cmpop""".split())
 
 
+WALKED = set("zip enumerate reversed range items keys values".split())
+WALKERS = set("list tuple dict sorted sum any all enumerate zip".split())
+
+
 def faults(text):
     """The rules that a file's text breaks, as pairs of rule and line."""
     found = faults_of_signs(text)
     tree = ast.parse(text)
+    found += faults_of_walks(tree)
     for node in ast.walk(tree):
         found += [(rule, getattr(node, "lineno", 0)) for rule in faults_of_node(node)]
     for node in tree.body:
@@ -130,6 +135,38 @@ def faults_of_name(name):
     return found
 
 
+def called(node):
+    """The name under which a node calls something, or None."""
+    if not isinstance(node, ast.Call):
+        return None
+    return node.func.attr if isinstance(node.func, ast.Attribute) else getattr(node.func, "id", None)
+
+
+def faults_of_walks(tree):
+    """What is not walked on the spot, and sets that are kept or walked."""
+    found = []
+    for node in ast.walk(tree):
+        for child in ast.iter_child_nodes(node):
+            name = called(child)
+            if name in WALKED and not walked_by(node, child):
+                found.append(("L23", child.lineno))
+            if name == "set" and called(node) not in ("sorted", "len") and not isinstance(node, (ast.Compare, ast.BinOp)):
+                found.append(("L24", child.lineno))
+    return found
+
+
+def walked_by(node, child):
+    """Whether the node walks its child on the spot."""
+    if isinstance(node, (ast.For, ast.comprehension)):
+        return node.iter is child
+    name = called(node)
+    if name in WALKERS:
+        return node.args[0] is child
+    if name in ("min", "max"):
+        return node.args == [child]
+    return name == "join" and isinstance(node.func.value, ast.Constant)
+
+
 def faults_of_bindings(tree):
     """Names bound twice at the top, and names of Python's own or of imports and classes bound anew."""
     top = [alias.asname or alias.name for node in tree.body if isinstance(node, ast.ImportFrom) for alias in node.names]
@@ -219,12 +256,16 @@ class FaultsTest(unittest.TestCase):
             ("X = '\u00e4'\n", "L14"), ("def f(next):\n    pass\n", "L15"), ("# its type\n", "L17"),
             ("def f(x, y):\n    return x is y\n", "L20"), ("X = '%'\n", "L27"), ("for x in (1, 2):\n    pass\n", "L3"),
             ("from beltgarth.rows import reads\ndef f(reads):\n    pass\n", "L15"),
+            ("def f(n):\n    return reversed(range(n))\n", "L23"), ("def f(n):\n    x = zip(n, n)\n", "L23"),
+            ("def f(d):\n    return d.items()\n", "L23"), ("def f(n):\n    return max(range(n), n)\n", "L23"),
+            ("def f(n):\n    x = set(n)\n", "L24"), ("def f(n):\n    for x in set(n):\n        pass\n", "L24"),
             ("def f(n):\n    return 2 ** n\n", "L27"), ("def f():\n    return 2 ** 65\n", "L27"),
         ]:
             self.assertIn(rule, [found for found, line in faults(text)], text)
 
     def test_what_keeps_to_the_rules_is_let_by(self):
         text = '"""Words."""\n\nX = (1, "a")\n\n\ndef f(a, b=0):\n    return [n for n in a if n is not None]\n'
+        text += '\n\ndef g(a):\n    for n in range(3):\n        a[n] = sorted(set(a)) == list(reversed(a))\n'
         self.assertEqual(faults(text), [])
 
 
