@@ -3,7 +3,7 @@
 from beltgarth.belts import begun
 from beltgarth.codes import places_read
 from beltgarth.papers import behind, weaker
-from beltgarth.rows import goal, leads, reads, sets, stands
+from beltgarth.rows import leads, reads, sets, stands
 
 
 def wrong(program, code, papers):

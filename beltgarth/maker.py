@@ -141,7 +141,7 @@ def code_row(row, n, belt):
 
 
 def belt_behind(outline, n, row, belt):
-    """The names that lie behind plain row n and are wanted there; behind a give none is."""
+    """The names that lie behind plain row n and are wanted there; a give has no row behind it."""
     if row[0] == "give":
         return belt
     names = outline.wants[stands(outline.rows, n + 1)]

@@ -210,6 +210,11 @@ class PackageTest(unittest.TestCase):
             with self.subTest(file=path.name):
                 self.assertEqual(faults(path.read_text()), [])
 
+    def test_what_is_drawn_is_used(self):
+        for file, tree in self.trees.items():
+            drawn = {alias.name for node in tree.body if isinstance(node, ast.ImportFrom) for alias in node.names}
+            self.assertEqual(drawn - {node.id for node in ast.walk(tree) if isinstance(node, ast.Name)}, set(), file)
+
     def test_methods_that_are_called(self):
         allowed = METHODS | own_methods(self.trees.values())
         for file, tree in self.trees.items():
